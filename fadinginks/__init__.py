@@ -1,0 +1,1 @@
+"""Fadinginks: boards written late, in inks that fade."""
