@@ -31,8 +31,8 @@ class ValuesTest(unittest.TestCase):
         if told:
             self.assertIsInstance(readings(plan, reader), tuple)
             return
-        calls = ((read, [None]), (readings, []), (can_read, [None]), (cases, [None]), (differences, [None]), (ring, [None]))
-        for function, more in calls:
+        for function in (read, readings, can_read, cases, differences, ring):
+            more = [] if function is readings else [None]
             with self.assertRaises(BadReader, msg=(function.__name__, reader)):
                 function(plan, reader, *more)
 
@@ -132,7 +132,8 @@ class ValuesTest(unittest.TestCase):
                     function(PLAN, READER, choice)
 
     def test_choices_at_another_cell(self):
-        for cell, shown, told in ((0, 0, True), (1, 0, False), (0, 1, False), (1, 1, True), (0, 2, True), (1, 2, False)):
+        for cell, shown in ((0, 0), (1, 0), (0, 1), (1, 1), (0, 2), (1, 2)):
+            told = WIDE[2][shown][0] == cell
             reader = (None, ((cell, 0, 9),))
             self.assertIs((3, shown) in cases(WIDE, reader, 0), told)
             if told:

@@ -143,11 +143,13 @@ class EndsTest(CheckedTest):
 
     def test_one_timetable_at_the_highest_bounds(self):
         plan = (4, (50, 1, 50, 2), tuple((at % 4, "abcdefgh"[at], at % 4, 50, 50) for at in range(8)))
-        for start, looks in ((None, ((0, 99, 99), (1, 1, 1), (2, 100, 100))), (7, ((3, 1, 1), (2, 0, 0), (0, 200, 200)))):
-            reader = (start, looks)
-            only = ((50,) * 8, tuple(low for _, low, _ in looks))
-            text = read(plan, reader, only)
-            self.assertEqual(text, "ab." if start is None else "h..")
+        told = {
+            "ab.": (None, ((0, 99, 99), (1, 1, 1), (2, 100, 100))),
+            "h..": (7, ((3, 1, 1), (2, 0, 0), (0, 200, 200))),
+        }
+        for text, reader in told.items():
+            only = ((50,) * 8, tuple(low for _, low, _ in reader[1]))
+            self.assertEqual(read(plan, reader, only), text)
             self.assertEqual(readings(plan, reader), (text,))
             self.assertEqual(can_read(plan, reader, text), only)
         high = (None, ((3, 200, 200), (3, 200, 200), (0, 200, 200)))
