@@ -33,6 +33,11 @@ def is_pace(plan, value):
     return are_rests(value, rest_bounds(plan))
 
 
+def is_sign(value):
+    """Tell whether value is a small letter or the sign for bare."""
+    return value == BARE or is_letter(value)
+
+
 def rest_bounds(plan):
     """Return the pairs (low, high) of the plan's writes."""
     return [(write[3], write[4]) for write in plan[2]]

@@ -5,10 +5,10 @@ number is the event number + 1.
 """
 
 from fadinginks.errors import BadChoice, BadNumber, BadReader, BadReading, BadTimetable
-from fadinginks.plans import BARE, check_plan, is_pace, rest_bounds, sign_at, summed
+from fadinginks.plans import BARE, check_plan, is_pace, is_sign, rest_bounds, sign_at, summed
 from fadinginks.rings import negative_ring
 from fadinginks.spans import chain_spans, fits, joined, latest
-from fadinginks.values import are_rests, is_letter, is_row, is_span, is_whole
+from fadinginks.values import are_rests, is_row, is_span, is_whole
 
 
 def is_reader(plan, value):
@@ -37,11 +37,11 @@ def is_timetable(plan, reader, value):
     return is_pace(plan, pace) and are_rests(rests, [(look[1], look[2]) for look in reader[1]])
 
 
-def is_reading(reader, value):
-    """Tell whether value is a text of a small letter or the sign for bare for each look."""
-    if not isinstance(value, str) or len(value) != len(reader[1]):
+def is_reading(value, least, most):
+    """Tell whether value is a text of least to most signs, small letters or the sign for bare."""
+    if not isinstance(value, str) or not least <= len(value) <= most:
         return False
-    return all([sign == BARE or is_letter(sign) for sign in value])
+    return all([is_sign(sign) for sign in value])
 
 
 def is_choice(plan, reader, value):
@@ -134,12 +134,12 @@ def write_differences(plan):
     return told
 
 
-def least_differences(told):
-    """Return the differences, ascending, for each pair of events only that of the least c."""
+def least_told(told):
+    """Return a dict that tells for each pair (x, y) of the differences the least c."""
     leasts = {}
     for x, y, c in told:
         leasts[x, y] = min(c, leasts.get((x, y), c))
-    return tuple(sorted([(x, y, c) for (x, y), c in leasts.items()]))
+    return leasts
 
 
 def look_options(plan, reader, at):
@@ -197,11 +197,8 @@ def all_options(plan, reader):
     return [look_options(plan, reader, at) for at in range(len(reader[1]))]
 
 
-def read(plan, reader, timetable):
-    """Return the reading that comes at the timetable."""
-    check_reader(plan, reader)
-    if not is_timetable(plan, reader, timetable):
-        raise BadTimetable("not a timetable (pace, rests) of the plan and the reader")
+def text_at(plan, reader, timetable):
+    """Return the reading that comes at the timetable, none of the values being checked."""
     pace, rests = timetable
     times = summed(0, pace)
     start = 0 if reader[0] is None else times[reader[0]]
@@ -209,19 +206,41 @@ def read(plan, reader, timetable):
     return "".join([sign_at(plan, times, look[0], tick) for look, tick in zip(reader[1], moments)])
 
 
+def all_texts(plan, reader):
+    """Return all readings, ascending, none of the values being checked.
+
+    So there may be more writes, higher highs and later looks than a plan and a reader can have.
+    """
+    return tuple(sorted(found_texts(chain_spans(rest_bounds(plan)), all_options(plan, reader))))
+
+
+def timetable_for(plan, reader, reading):
+    """Return a timetable at which the reading comes, None if there is none, none of the values being checked."""
+    spans = found_spans(chain_spans(rest_bounds(plan)), all_options(plan, reader), reading)
+    return None if spans is None else timetable_of(plan, reader, latest(spans))
+
+
+def read(plan, reader, timetable):
+    """Return the reading that comes at the timetable."""
+    check_reader(plan, reader)
+    if not is_timetable(plan, reader, timetable):
+        raise BadTimetable("not a timetable (pace, rests) of the plan and the reader")
+    return text_at(plan, reader, timetable)
+
+
 def readings(plan, reader):
     """Return the ascending tuple of all readings that come at some timetable."""
     check_reader(plan, reader)
-    return tuple(sorted(found_texts(chain_spans(rest_bounds(plan)), all_options(plan, reader))))
+    return all_texts(plan, reader)
 
 
 def can_read(plan, reader, reading):
     """Return a timetable at which the reading comes, None if there is none."""
     check_reader(plan, reader)
-    if not is_reading(reader, reading):
+    looks = len(reader[1])
+    if not is_reading(reading, looks, looks):
         raise BadReading("not a small letter or the sign for bare for each look")
-    spans = found_spans(chain_spans(rest_bounds(plan)), all_options(plan, reader), reading)
-    return None if spans is None else timetable_of(plan, reader, latest(spans))
+    return timetable_for(plan, reader, reading)
 
 
 def cases(plan, reader, at):
@@ -238,7 +257,7 @@ def differences(plan, reader, choice):
     told = write_differences(plan)
     for at, case in enumerate(choice):
         told.extend(look_differences(plan, reader, at, case))
-    return least_differences(told)
+    return tuple(sorted([(x, y, c) for (x, y), c in least_told(told).items()]))
 
 
 def ring(plan, reader, choice):

@@ -21,15 +21,20 @@ def chain_spans(bounds):
     return [[highs[x] - highs[y] if x > y else lows[x] - lows[y] for y in events] for x in events]
 
 
-def fits(spans, floors, roofs):
-    """Tell whether one more event can stand above its floors and below its roofs."""
+def clash(spans, floors, roofs):
+    """Return a roof's and a floor's event with no room between for one more event, None if there is room."""
     # The table is closed, so a ring through the event has one floor and one roof.
     for y, more in roofs:
         row = spans[y]
         for x, less in floors:
             if row[x] + more + less < 0:
-                return False
-    return True
+                return (y, x)
+    return None
+
+
+def fits(spans, floors, roofs):
+    """Tell whether one more event can stand above its floors and below its roofs."""
+    return clash(spans, floors, roofs) is None
 
 
 def joined(spans, floors, roofs):

@@ -1,6 +1,7 @@
 """What several tests need: wrong values, and the document's words worked out by going through everything."""
 
 import copy
+import doctest
 import itertools
 import random
 
@@ -141,3 +142,55 @@ def small_pairs():
         plan = some_plan(chance, turn % 5, wide=2 if turn % 5 < 4 else 1)
         pairs.append((plan, some_reader(chance, plan, 1 + turn % 3)))
     return pairs
+
+
+def run_example(test, example, many):
+    """Check an example of the interface, of so many lines that are entered."""
+    made = doctest.DocTestParser().get_doctest(example, {}, "example", None, 0)
+    test.assertEqual(doctest.DocTestRunner().run(made), (0, many))
+
+
+def is_told(text, claim):
+    """Tell whether the claim is so at the reading."""
+    word, *rest = claim
+    if word == "sees":
+        look, sign = rest
+        return text[look] == sign
+    if word == "alike":
+        look, other = rest
+        return text[look] == text[other]
+    inner = [is_told(text, part) for part in rest]
+    return {"not": not inner[0], "and": all(inner), "or": any(inner)}[word]
+
+
+def some_claim(chance, looks, parts):
+    """Return a claim on so many looks, of so many parts at most, chosen by chance."""
+    word = chance.choice(["sees", "alike", "sees"]) if parts < 2 else chance.choice(["not", "and", "or", "or"])
+    if word == "sees":
+        return (word, chance.randrange(looks), chance.choice(".abc"))
+    if word == "alike":
+        return (word, chance.randrange(looks), chance.randrange(looks))
+    if word == "not" or parts < 3:
+        return ("not", some_claim(chance, looks, parts - 1))
+    first = chance.randint(1, parts - 2)
+    return (word, some_claim(chance, looks, first), some_claim(chance, looks, parts - 1 - first))
+
+
+def check_wrongs(test, function, arguments, at, wrongs, error):
+    """Check that the error is raised with each of the wrongs as the argument with the number at."""
+    for wrong in wrongs:
+        given = [wrong if number == at else value for number, value in enumerate(arguments)]
+        with test.assertRaises(error, msg=(function.__name__, wrong)) as caught:
+            function(*given)
+        test.assertIs(type(caught.exception), error)
+
+
+def full_plans():
+    """Return plans at the ends of the bounds of [2]."""
+    signs = "abcdefgh"
+    plans = []
+    for stays in ((50, 1, 7, 30), (50, 30, 10, 1), (1, 1, 1, 1), (50, 50, 50, 50)):
+        for cells in (1, 4):
+            writes = [(at % cells, signs[at], (at + at // 4) % 4, 0, 50) for at in range(8)]
+            plans.append((cells, stays, tuple(writes)))
+    return plans

@@ -3,7 +3,7 @@
 import inspect
 import unittest
 
-from fadinginks import errors, plans, readers
+from fadinginks import alike, claims, errors, plans, readers, sure
 
 FIELDS = {
     "BadPlan": [], "BadPace": [], "NoCell": [], "BadTick": [], "BadReader": [], "BadTimetable": [], "BadReading": [],
@@ -54,6 +54,18 @@ class InterfaceTest(unittest.TestCase):
             readers: {
                 "read": "plan reader timetable", "readings": "plan reader", "can_read": "plan reader reading",
                 "cases": "plan reader at", "differences": "plan reader choice", "ring": "plan reader choice",
+            },
+            claims: {
+                "is_so": "reading claim", "holds": "plan reader claim", "judged": "plan reader claim paper",
+                "breaks": "plan reader claim", "paper": "plan reader claim", "slack": "plan reader claim most",
+            },
+            # The last one of round_readings would have the name of a builtin, which the language leaves out.
+            sure: {
+                "can_see": "plan cell tick", "sure": "plan cell sign last", "settled": "plan",
+                "round_readings": "plan reader number",
+            },
+            alike: {
+                "are_alike": "plan other", "parting": "plan other", "needless": "plan", "least_stay": "plan ink",
             },
         }
         for module, functions in told.items():

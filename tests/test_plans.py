@@ -1,12 +1,11 @@
 """[1], [2] and [3]: plans, paces and boards."""
 
-import doctest
 import random
 import unittest
 
 from fadinginks.errors import BadPace, BadPlan, BadTick, NoCell
 from fadinginks.plans import board, is_plan, seen, story, ticks
-from tests.helpers import WRONG, all_paces, broken, case_at, check_order, some_plan, text_of, write_ticks
+from tests.helpers import WRONG, all_paces, broken, case_at, check_order, run_example, some_plan, text_of, write_ticks
 
 EXAMPLE = """
 >>> from fadinginks.plans import board, is_plan, seen, story, ticks
@@ -143,8 +142,7 @@ class WrongTest(unittest.TestCase):
 
 class SeenTest(unittest.TestCase):
     def test_example(self):
-        made = doctest.DocTestParser().get_doctest(EXAMPLE, {}, "plans", None, 0)
-        self.assertEqual(doctest.DocTestRunner().run(made), (0, 3))
+        run_example(self, EXAMPLE, 3)
 
     def test_there_from_its_tick_and_less_than_its_stay(self):
         plan = (1, (3,), ((0, "c", 0, 2, 4),))

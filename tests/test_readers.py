@@ -1,11 +1,10 @@
 """[1] and [4] to [7]: values of readers, and their examples."""
 
-import doctest
 import unittest
 
 from fadinginks.errors import BadChoice, BadNumber, BadPlan, BadReader, BadReading, BadTimetable
 from fadinginks.readers import can_read, cases, differences, read, readings, ring
-from tests.helpers import WRONG, broken, check_order
+from tests.helpers import WRONG, broken, check_order, run_example
 
 EXAMPLE = """
 >>> from fadinginks.readers import can_read, cases, differences, read, readings, ring
@@ -158,8 +157,7 @@ class ValuesTest(unittest.TestCase):
 
 class SmallTest(unittest.TestCase):
     def test_example(self):
-        made = doctest.DocTestParser().get_doctest(EXAMPLE, {}, "readers", None, 0)
-        self.assertEqual(doctest.DocTestRunner().run(made), (0, 6))
+        run_example(self, EXAMPLE, 6)
 
     def test_read_counts_from_the_tick_0_or_a_write(self):
         looks = ((0, 0, 9), (0, 0, 9), (0, 0, 9))

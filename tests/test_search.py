@@ -5,7 +5,9 @@ import random
 import unittest
 
 from fadinginks.readers import can_read, cases, differences, read, readings, ring
-from tests.helpers import all_timetables, choice_at, has_negative_ring, look_ticks, small_pairs, text_of, write_ticks
+from tests.helpers import (
+    all_timetables, choice_at, full_plans, has_negative_ring, look_ticks, small_pairs, text_of, write_ticks,
+)
 
 
 def events_of(reader, timetable):
@@ -88,15 +90,8 @@ class SmallTest(CheckedTest):
 class EndsTest(CheckedTest):
     """Plans and readers at the ends of all bounds, with up to 51 ** 8 * 201 ** 3 timetables."""
 
-    def full_plans(self):
-        signs = "abcdefgh"
-        for stays in ((50, 1, 7, 30), (1, 1, 1, 1), (50, 50, 50, 50)):
-            for cells in (1, 4):
-                writes = [(at % cells, signs[at], (at + at // 4) % 4, 0, 50) for at in range(8)]
-                yield (cells, stays, tuple(writes))
-
     def test_every_reading_comes_and_no_other(self):
-        for plan in self.full_plans():
+        for plan in full_plans():
             for start in (None, 0, 7):
                 last = plan[0] - 1
                 reader = (start, ((0, 0, 200), (last, 0, 200), (last // 2, 0, 200)))
@@ -110,7 +105,7 @@ class EndsTest(CheckedTest):
                         self.assertIsNone(can_read(plan, reader, text))
 
     def test_readings_are_those_of_the_choices_without_rings(self):
-        for plan in self.full_plans():
+        for plan in full_plans():
             reader = (1, ((0, 0, 200), (plan[0] - 1, 0, 200)))
             texts = set()
             for choice in itertools.product(cases(plan, reader, 0), cases(plan, reader, 1)):
@@ -120,7 +115,7 @@ class EndsTest(CheckedTest):
 
     def test_rings_of_three_looks(self):
         chance = random.Random(7)
-        for plan in self.full_plans():
+        for plan in full_plans():
             reader = (0, ((0, 0, 200), (0, 0, 200), (plan[0] - 1, 0, 200)))
             rows = [cases(plan, reader, at) for at in range(3)]
             self.assertEqual(len(rows[0]), 45 if plan[0] == 1 else 21)
