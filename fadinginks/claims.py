@@ -87,6 +87,21 @@ def widened(plan, more):
     return (cells, stays, tuple([(cell, sign, ink, low, high + more) for cell, sign, ink, low, high in writes]))
 
 
+def most_slack(plan, reader, claim, most):
+    """Return what slack returns, none of the values being checked."""
+    if breaking_text(plan, reader, claim) is not None:
+        return None
+    held, beyond = 0, most + 1
+    # Higher highs only add timetables, so what holds with some holds with fewer.
+    while beyond - held > 1:
+        more = (held + beyond) // 2
+        if breaking_text(widened(plan, more), reader, claim) is None:
+            held = more
+        else:
+            beyond = more
+    return held
+
+
 def is_so(reading, claim):
     """Tell whether the claim is so at the reading."""
     if not is_reading(reading, 1, 3):
@@ -133,14 +148,4 @@ def slack(plan, reader, claim, most):
     check_claim(plan, reader, claim)
     if not is_whole(most, 0, 50):
         raise BadNumber("not a number from 0 to 50")
-    if breaking_text(plan, reader, claim) is not None:
-        return None
-    held, beyond = 0, most + 1
-    # Higher highs only add timetables, so what holds with some holds with fewer.
-    while beyond - held > 1:
-        more = (held + beyond) // 2
-        if breaking_text(widened(plan, more), reader, claim) is None:
-            held = more
-        else:
-            beyond = more
-    return held
+    return most_slack(plan, reader, claim, most)

@@ -4,6 +4,7 @@ import copy
 import doctest
 import itertools
 import random
+import re
 
 
 def nested(depth):
@@ -194,3 +195,168 @@ def full_plans():
             writes = [(at % cells, signs[at], (at + at // 4) % 4, 0, 50) for at in range(8)]
             plans.append((cells, stays, tuple(writes)))
     return plans
+
+
+KEYS = "cells ink write reader begin at ask reads sure slack or and not sees bare like".split()
+MARKS = [";", ":", ",", "..", "(", ")"]
+# What can stand behind what in a program: for each state the kinds of words and the states behind them. The claims'
+# brackets are counted beside it.
+STATES = {
+    "start": {"cells": "cells"}, "cells": {"NUMBER": "end"}, "end": {";": "top"},
+    "top": {"ink": "ink", "write": "write", "reader": "reader", "ask": "ask"},
+    "ink": {"NAME": "stay"}, "stay": {"NUMBER": "end"},
+    "write": {"NUMBER": "sign"}, "sign": {"SIGN": "inked"}, "inked": {"NAME": "low"}, "low": {"NUMBER": "to"},
+    "to": {"..": "stay"},
+    "reader": {"NAME": "begin"}, "begin": {"begin": "colon", "write": "number"}, "number": {"NUMBER": "colon"},
+    "colon": {":": "look"}, "look": {"NUMBER": "at"}, "at": {"at": "least"}, "least": {"NUMBER": "dots"},
+    "dots": {"..": "most"}, "most": {"NUMBER": "looked"}, "looked": {",": "look", ";": "top"},
+    "ask": {"reads": "reads", "sure": "sure", "slack": "slack"}, "reads": {"NAME": "end"}, "sure": {"NAME": "claim"},
+    "slack": {"NAME": "much"}, "much": {"NUMBER": "claim"},
+    "claim": {"not": "claim", "(": "claim", "NUMBER": "told"}, "told": {"sees": "seen", "bare": "so", "like": "other"},
+    "seen": {"SIGN": "so"}, "other": {"NUMBER": "so"},
+    "so": {"or": "claim", "and": "claim", ")": "so", ";": "top"},
+}
+
+
+def kind_of(word):
+    """Return what kind of word it is, itself for a key or a sign, a question mark for none."""
+    if word in KEYS + MARKS:
+        return word
+    for kind, form in (("NUMBER", "0|[1-9][0-9]{0,2}"), ("NAME", "[A-Z]{1,8}"), ("SIGN", "[a-z]")):
+        if re.fullmatch(form, word):
+            return kind
+    return "?"
+
+
+def first_misplaced(words):
+    """Return the number of the first word that cannot stand there, so many as there are if the words end too early.
+
+    None if all words can stand there and make a whole program but for what its numbers and names mean.
+    """
+    state, depth = "start", 0
+    for number, word in enumerate(words):
+        kind = kind_of(word)
+        depth += {"(": 1, ")": -1}.get(kind, 0) if state in ("claim", "so") else 0
+        if kind not in STATES[state] or not 0 <= depth <= 30 or (state == "so" and kind == ";" and depth):
+            return number
+        state = STATES[state][kind]
+    return None if state == "top" else len(words)
+
+
+def run_together(left, right):
+    """Tell whether two words must have a blank or a line end between them."""
+    return bool(re.search("[0-9A-Za-z]$", left) and re.match("[0-9A-Za-z]", right)) or left[-1] == right[0] == "."
+
+
+def tight(words):
+    """Return the text of the words with no needless blank."""
+    text = words[0]
+    for left, right in zip(words, words[1:]):
+        text += " " + right if run_together(left, right) else right
+    return text
+
+
+def loose(chance, words):
+    """Return (text, places): the words with blanks and line ends wherever they may stand, and where each begins."""
+    text = chance.choice(["", " ", "\n"])
+    places = []
+    for number, word in enumerate(words):
+        places.append(len(text))
+        must = number + 1 < len(words) and run_together(word, words[number + 1])
+        text += word + chance.choice(["", "", " ", "\n", " \n ", "  "][2 * must:])
+    return text, places
+
+
+def cut_words(text):
+    """Return the words of a program that is rightly written."""
+    return re.findall("[0-9A-Za-z]+|[.][.]|[;:,()]", text)
+
+
+def claim_words(chance, claim, inner=False):
+    """Return the words of the claim, in all brackets that it may need and in some needless ones."""
+    word, *rest = claim
+    if word == "sees":
+        words = [str(rest[0]), "bare"] if rest[1] == "." else [str(rest[0]), "sees", rest[1]]
+    elif word == "alike":
+        words = [str(rest[0]), "like", str(rest[1])]
+    elif word == "not":
+        words = ["not"] + claim_words(chance, rest[0], True)
+    else:
+        words = claim_words(chance, rest[0], True) + [word] + claim_words(chance, rest[1], True)
+    return ["("] + words + [")"] if inner and (word in ("and", "or") or chance.random() < 0.2) else words
+
+
+def claim_tree(words):
+    """Return the claim that the words tell, by splitting them at the last of the words that bind least."""
+    depths = [words[:at].count("(") - words[:at].count(")") for at in range(len(words))]
+    for key in ("or", "and"):
+        found = [at for at, word in enumerate(words) if word == key and depths[at] == 0]
+        if found:
+            return (key, claim_tree(words[:found[-1]]), claim_tree(words[found[-1] + 1:]))
+    if words[0] == "not":
+        return ("not", claim_tree(words[1:]))
+    if words[0] == "(":
+        return claim_tree(words[1:-1])
+    if words[1] == "like":
+        return ("alike", int(words[0]), int(words[2]))
+    return ("sees", int(words[0]), "." if words[1] == "bare" else words[2])
+
+
+def ink_words(name, stay):
+    """Return the words of an ink's statement."""
+    return ["ink", name, str(stay), ";"]
+
+
+def write_words(write, names):
+    """Return the words of a write's statement, names being those of the inks."""
+    cell, sign, ink, low, high = write
+    return ["write", str(cell), sign, names[ink], str(low), "..", str(high), ";"]
+
+
+def reader_words(name, reader):
+    """Return the words of a reader's statement."""
+    start, looks = reader
+    words = ["reader", name] + (["begin"] if start is None else ["write", str(start)])
+    for at, (cell, low, high) in enumerate(looks):
+        words += ["," if at else ":", str(cell), "at", str(low), "..", str(high)]
+    return words + [";"]
+
+
+def plan_words(plan):
+    """Return the words of a program that makes the plan, its inks called A, B, .."""
+    cells, stays, writes = plan
+    words = ["cells", str(cells), ";"]
+    for name, stay in zip("ABCD", stays):
+        words += ink_words(name, stay)
+    for write in writes:
+        words += write_words(write, "ABCD")
+    return words
+
+
+def some_program(chance, statements):
+    """Return (words, asks): a program chosen by chance, and for each of its asks (plan, reader, question)."""
+    cells = chance.randint(1, 3)
+    words, asks = ["cells", str(cells), ";"], []
+    inks, writes, readers = {}, [], {}
+    for _ in range(statements):
+        kind = chance.choice(["ink"] * 2 + ["write"] * 3 + ["reader"] * 2 + ["ask"] * 4)
+        fresh = chance.choice(["INK", "A", "ABCDEFGH", "Z", "RED", "R", "BLUE", "Q", "LONGNAME", "I", "AND", "OR"])
+        plan = (cells, tuple(inks.values()), tuple(writes))
+        if kind == "ink" and len(inks) < 4 and fresh not in inks and fresh not in readers:
+            inks[fresh] = chance.randint(1, 6)
+            words += ink_words(fresh, inks[fresh])
+        elif kind == "write" and inks and len(writes) < 5:
+            span = some_span(chance, 4, 2)
+            writes.append((chance.randrange(cells), chance.choice("abc"), chance.randrange(len(inks))) + span)
+            words += write_words(writes[-1], list(inks))
+        elif kind == "reader" and fresh not in inks and fresh not in readers:
+            readers[fresh] = some_reader(chance, plan, chance.randint(1, 3))
+            words += reader_words(fresh, readers[fresh])
+        elif kind == "ask" and readers:
+            name = chance.choice(list(readers))
+            claim = some_claim(chance, len(readers[name][1]), chance.randint(1, 20))
+            question = chance.choice([("reads",), ("sure", claim), ("slack", chance.randint(0, 50), claim)])
+            words += ["ask", question[0], name] + [str(most) for most in question[1:-1]]
+            words += claim_words(chance, claim) * (len(question) > 1) + [";"]
+            asks.append((plan, readers[name], question))
+    return words, asks

@@ -3,7 +3,7 @@
 import inspect
 import unittest
 
-from fadinginks import alike, claims, errors, plans, readers, sure
+from fadinginks import alike, claims, desks, errors, plans, readers, reading, running, sure
 
 FIELDS = {
     "BadPlan": [], "BadPace": [], "NoCell": [], "BadTick": [], "BadReader": [], "BadTimetable": [], "BadReading": [],
@@ -67,9 +67,20 @@ class InterfaceTest(unittest.TestCase):
             alike: {
                 "are_alike": "plan other", "parting": "plan other", "needless": "plan", "least_stay": "plan ink",
             },
+            reading: {"check": "text"},
+            running: {"printed": "text", "run": "text"},
+            desks: {"Desk": "plan"},
         }
         for module, functions in told.items():
             for name, arguments in functions.items():
                 function = getattr(module, name)
                 self.assertEqual(function.__module__, module.__name__, name)
                 self.assertEqual(list(inspect.signature(function).parameters), arguments.split(), name)
+
+    def test_methods_of_desks(self):
+        told = {
+            "wait": "self many", "write": "self", "undo": "self", "tick": "self", "done": "self", "board": "self",
+            "coming": "self cell many", "text": "self",
+        }
+        for name, arguments in told.items():
+            self.assertEqual(list(inspect.signature(vars(desks.Desk)[name]).parameters), arguments.split(), name)

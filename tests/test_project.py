@@ -106,3 +106,14 @@ class RulesTest(unittest.TestCase):
             for node in tree.body[1:]:
                 self.assertIsInstance(node, kinds, path)
                 self.assertEqual(getattr(node, "decorator_list", []), [], path)
+                if isinstance(node, ast.Assign):
+                    self.assertEqual([type(target) for target in node.targets], [ast.Name], path)
+
+    def test_methods_and_attributes(self):
+        for path, tree in trees():
+            for made in [node for node in tree.body if isinstance(node, ast.ClassDef)]:
+                methods = [node.name for node in made.body if isinstance(node, ast.FunctionDef)]
+                self.assertEqual(len(methods), len(set(methods)), (path, made.name))
+                for node in ast.walk(made):
+                    if isinstance(node, ast.Attribute) and isinstance(node.ctx, ast.Store):
+                        self.assertNotIn(node.attr, methods, (path, made.name))
